@@ -4,6 +4,8 @@ package byway
 import (
 	"byway/api"
 	"byway/atlas"
+	"byway/hubs"
+	"byway/ranks"
 	"byway/ways"
 )
 
@@ -33,7 +35,17 @@ func Route(text string, from int, to int) ([]int, int, api.Errno, int) {
 }
 
 // Labels gives all labels (P5).
-func Labels(text string, order string) ([]api.Label, api.Errno, int) { return nil, api.OK, 0 }
+func Labels(text string, order string) ([]api.Label, api.Errno, int) {
+	m, e, at := atlas.Parse(text)
+	if e != api.OK {
+		return nil, e, at
+	}
+	ranked, ok := ranks.Parse(m, order)
+	if !ok {
+		return nil, api.ErrOrder, 0
+	}
+	return hubs.Labels(m, ranked), api.OK, 0
+}
 
 // Save puts the labels into pages (P6).
 func Save(text string, order string) (string, api.Errno, int) { return "", api.OK, 0 }
