@@ -5,7 +5,9 @@ import (
 	"byway/api"
 	"byway/atlas"
 	"byway/hubs"
+	"byway/pages"
 	"byway/ranks"
+	"byway/records"
 	"byway/ways"
 )
 
@@ -36,25 +38,54 @@ func Route(text string, from int, to int) ([]int, int, api.Errno, int) {
 
 // Labels gives all labels (P5).
 func Labels(text string, order string) ([]api.Label, api.Errno, int) {
-	m, e, at := atlas.Parse(text)
-	if e != api.OK {
-		return nil, e, at
-	}
-	ranked, ok := ranks.Parse(m, order)
-	if !ok {
-		return nil, api.ErrOrder, 0
-	}
-	return hubs.Labels(m, ranked), api.OK, 0
+	_, labels, e, at := rankAndLabel(text, order)
+	return labels, e, at
 }
 
 // Save puts the labels into pages (P6).
-func Save(text string, order string) (string, api.Errno, int) { return "", api.OK, 0 }
+func Save(text string, order string) (string, api.Errno, int) {
+	ranked, labels, e, at := rankAndLabel(text, order)
+	if e != api.OK {
+		return "", e, at
+	}
+	return pages.Write(records.Write(ranked, labels)), api.OK, 0
+}
+
+// rankAndLabel gives the places from the highest to the lowest, and all labels.
+func rankAndLabel(text string, order string) ([]int, []api.Label, api.Errno, int) {
+	m, e, at := atlas.Parse(text)
+	if e != api.OK {
+		return nil, nil, e, at
+	}
+	ranked, ok := ranks.Parse(m, order)
+	if !ok {
+		return nil, nil, api.ErrOrder, 0
+	}
+	return ranked, hubs.Labels(m, ranked), api.OK, 0
+}
 
 // Store is labels in pages.
 type Store struct{}
 
 // Open opens one (P7).
-func Open(data string, cache int) (*Store, api.Errno, int) { return nil, api.OK, 0 }
+func Open(data string, cache int) (*Store, api.Errno, int) {
+	if cache < 1 || cache > api.MaxCache {
+		return nil, api.ErrConf, 0
+	}
+	if len(data) > api.MaxStore {
+		return nil, api.ErrLong, 0
+	}
+	if data == "" || len(data)%api.Page != 0 {
+		return nil, api.ErrStore, 0
+	}
+	if wrong := pages.FirstWrong(data); wrong != pages.Right {
+		return nil, api.ErrSum, wrong
+	}
+	if !records.Valid(pages.Held(data)) {
+		return nil, api.ErrStore, 0
+	}
+	return &Store{}, api.OK, 0
+}
 
 // Far tells how far it is (P8).
 func (s *Store) Far(from int, to int) (int, int, api.Errno) { return 0, 0, api.OK }

@@ -1,0 +1,88 @@
+package pages
+
+import (
+	"hash/crc32"
+	"strings"
+	"testing"
+)
+
+// sumByWords goes bit by bit, as the document tells it.
+func sumByWords(page int, held string) uint32 {
+	sum := uint32(4294967295)
+	for _, b := range []byte(string([]byte{byte(page >> 8), byte(page)}) + held) {
+		sum ^= uint32(b)
+		for range 8 {
+			if sum%2 == 1 {
+				sum = sum/2 ^ 3988292384
+			} else {
+				sum /= 2
+			}
+		}
+	}
+	return 4294967295 - sum
+}
+
+// drawn gives bytes of all kinds.
+func drawn(size int) string {
+	text := make([]byte, size)
+	for i := range text {
+		text[i] = byte(i*i + i/7)
+	}
+	return string(text)
+}
+
+func TestSumOf(t *testing.T) {
+	for _, page := range []int{0, 1, 2, 127, 128, 255, 256, 257, 1874, 65535} {
+		for _, held := range []string{strings.Repeat("\x00", 28), strings.Repeat("\xff", 28), drawn(28), drawn(200)[172:]} {
+			want := sumByWords(page, held)
+			if sum := sumOf(page, held); sum != want {
+				t.Errorf("sumOf(%d, %x) = %d, want %d", page, held, sum, want)
+			}
+		}
+	}
+	for b := range 256 {
+		held := strings.Repeat("a", 27) + string([]byte{byte(b)})
+		if sum, want := sumOf(5, held), crc32.ChecksumIEEE([]byte("\x00\x05"+held)); sum != want {
+			t.Errorf("sumOf(5, %x) = %d, want %d", held, sum, want)
+		}
+	}
+}
+
+func TestWriteAndHeld(t *testing.T) {
+	for size := range 200 {
+		held := drawn(size)
+		data := Write(held)
+		count := (size + 27) / 28
+		filled := held + strings.Repeat("\x00", count*28-size)
+		if len(data) != count*32 || Held(data) != filled || FirstWrong(data) != Right {
+			t.Errorf("%d bytes: %x holds %x, wrong: %d", size, data, Held(data), FirstWrong(data))
+		}
+		for page := range count {
+			sum := sumByWords(page, filled[page*28:page*28+28])
+			if got := data[page*32+28 : page*32+32]; got != string([]byte{byte(sum >> 24), byte(sum >> 16), byte(sum >> 8), byte(sum)}) {
+				t.Errorf("%d bytes: page %d has the sum %x, want %d", size, page, got, sum)
+			}
+		}
+	}
+}
+
+func TestFirstWrong(t *testing.T) {
+	data := Write(drawn(28 * 300))
+	for _, at := range []int{0, 27, 28, 31, 32, 63, 64, 255*32 + 5, 256*32 + 5, 257 * 32, 299*32 + 31} {
+		changed := []byte(data)
+		changed[at] ^= 16
+		if page := FirstWrong(string(changed)); page != at/32 {
+			t.Errorf("byte %d changed: FirstWrong = %d", at, page)
+		}
+		changed[299*32] ^= 1
+		if page := FirstWrong(string(changed)); page != at/32 {
+			t.Errorf("byte %d and the last page changed: FirstWrong = %d", at, page)
+		}
+	}
+	// the number of a page is in its sum, both bytes of it
+	for _, moved := range []string{data[32:], data[32:64] + data[:32], data[256*32:], data[257*32:]} {
+		if page := FirstWrong(moved); page != 0 {
+			t.Errorf("FirstWrong = %d", page)
+		}
+	}
+}
