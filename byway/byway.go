@@ -63,35 +63,3 @@ func rankAndLabel(text string, order string) ([]int, []api.Label, api.Errno, int
 	}
 	return ranked, hubs.Labels(m, ranked), api.OK, 0
 }
-
-// Store is labels in pages.
-type Store struct{}
-
-// Open opens one (P7).
-func Open(data string, cache int) (*Store, api.Errno, int) {
-	if cache < 1 || cache > api.MaxCache {
-		return nil, api.ErrConf, 0
-	}
-	if len(data) > api.MaxStore {
-		return nil, api.ErrLong, 0
-	}
-	if data == "" || len(data)%api.Page != 0 {
-		return nil, api.ErrStore, 0
-	}
-	if wrong := pages.FirstWrong(data); wrong != pages.Right {
-		return nil, api.ErrSum, wrong
-	}
-	if !records.Valid(pages.Held(data)) {
-		return nil, api.ErrStore, 0
-	}
-	return &Store{}, api.OK, 0
-}
-
-// Far tells how far it is (P8).
-func (s *Store) Far(from int, to int) (int, int, api.Errno) { return 0, 0, api.OK }
-
-// Around tells the nearest places (P8).
-func (s *Store) Around(from int, n int) ([]api.Near, api.Errno) { return nil, api.OK }
-
-// Reads tells how many pages were read (P8).
-func (s *Store) Reads() int { return 0 }

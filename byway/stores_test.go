@@ -71,6 +71,20 @@ func countByWords(n int) string {
 	return string([]byte{byte(128 + n%128), byte(128 + n/128%128), byte(n / 128 / 128)})
 }
 
+// labelByWords writes the label of a place.
+func labelByWords(order []int, labels []api.Label, place int) string {
+	hubs, text, ahead := 0, "", -1
+	for _, label := range labels {
+		if label.Place == place {
+			rank := slices.Index(order, label.Hub)
+			text += countByWords(rank-ahead-1) + countByWords(label.Far)
+			ahead = rank
+			hubs++
+		}
+	}
+	return countByWords(hubs) + text
+}
+
 // heldByWords writes what a store holds, without the bytes that fill the last page.
 func heldByWords(order []int, labels []api.Label) string {
 	held := "bw" + string([]byte{byte(len(order))})
@@ -79,16 +93,7 @@ func heldByWords(order []int, labels []api.Label) string {
 	}
 	behind := ""
 	for place := range len(order) {
-		hubs, text, ahead := 0, "", -1
-		for _, label := range labels {
-			if label.Place == place {
-				rank := slices.Index(order, label.Hub)
-				text += countByWords(rank-ahead-1) + countByWords(label.Far)
-				ahead = rank
-				hubs++
-			}
-		}
-		text = countByWords(hubs) + text
+		text := labelByWords(order, labels, place)
 		held += countByWords(len(text))
 		behind += text
 	}
@@ -269,8 +274,8 @@ func TestP7OpenTellsTheFirstWrongPage(t *testing.T) {
 	open(t, string(far), 1, api.ErrSum, 300)
 }
 
-// TestP7OpenTellsChangesInOnePage changes the sum alone, or up to four bytes in a row of what is held.
-func TestP7OpenTellsChangesInOnePage(t *testing.T) {
+// TestP9OpenTellsChangesInOnePage changes the sum alone, or up to four bytes in a row of what is held.
+func TestP9OpenTellsChangesInOnePage(t *testing.T) {
 	r := rand.New(rand.NewSource(17))
 	data := saved(t, chain(30, 900), "")
 	for range 20000 {

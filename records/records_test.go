@@ -2,6 +2,7 @@ package records
 
 import (
 	"encoding/hex"
+	"slices"
 	"strings"
 	"testing"
 
@@ -32,7 +33,40 @@ func filled(held string) string {
 	return held + strings.Repeat("\x00", (28-len(held)%28)%28)
 }
 
-func TestWriteIsValid(t *testing.T) {
+// readBack gives the labels that the head tells of, with its order.
+func readBack(t *testing.T, held string) ([]int, []api.Label) {
+	t.Helper()
+	h, ok := Read(filled(held))
+	if !ok {
+		t.Fatalf("Read(%x): none", held)
+	}
+	var order []int
+	for rank := range h.Places() {
+		order = append(order, h.PlaceOf(rank))
+	}
+	var labels []api.Label
+	for place := range h.Places() {
+		start, end := h.Bounds(place)
+		hubs, ok := ReadLabel(held[start:end])
+		if !ok {
+			t.Fatalf("ReadLabel(%x): none", held[start:end])
+		}
+		for _, hub := range hubs {
+			labels = append(labels, api.Label{Place: place, Hub: h.PlaceOf(hub.Rank), Far: hub.Far})
+		}
+	}
+	return order, labels
+}
+
+func checkRead(t *testing.T, held string, order []int, labels []api.Label) {
+	t.Helper()
+	gotOrder, gotLabels := readBack(t, held)
+	if !slices.Equal(gotOrder, order) || !slices.Equal(gotLabels, labels) {
+		t.Errorf("%x is read as %v, %v, want %v, %v", held, gotOrder, gotLabels, order, labels)
+	}
+}
+
+func TestReadTakesBackWhatWriteGave(t *testing.T) {
 	for _, c := range []struct {
 		order  []int
 		labels [][3]int
@@ -47,9 +81,7 @@ func TestWriteIsValid(t *testing.T) {
 		if held != fromHex(t, c.want) {
 			t.Errorf("Write(%v, %v) = %x, want %s", c.order, c.labels, held, c.want)
 		}
-		if !Valid(filled(held)) {
-			t.Errorf("%x is not valid", held)
-		}
+		checkRead(t, held, c.order, labelRows(c.labels))
 	}
 }
 
@@ -68,15 +100,24 @@ func TestALongLabel(t *testing.T) {
 	if want := 3 + 40 + 32 + 2*8 + 40*3 + 4*780; len(held) != want {
 		t.Errorf("%d bytes, want %d", len(held), want)
 	}
-	if !Valid(filled(held)) {
-		t.Error("not valid")
-	}
-	if Valid(filled(held)+strings.Repeat("\x00", 28)) || Valid(filled(held)[:len(filled(held))-28]) {
-		t.Error("valid with a page more or less")
+	checkRead(t, held, order, labels)
+	for _, wrong := range []string{filled(held) + strings.Repeat("\x00", 28), filled(held)[:len(filled(held))-28]} {
+		if _, ok := Read(wrong); ok {
+			t.Errorf("read with %d bytes instead of %d", len(wrong), len(filled(held)))
+		}
 	}
 }
 
-func TestValidRefuses(t *testing.T) {
+func TestHas(t *testing.T) {
+	h, _ := Read(filled(fromHex(t, "6277 02 0100 03 03 010100 010000")))
+	for place, has := range map[int]bool{-1 << 63: false, -1: false, 0: true, 1: true, 2: false, 40: false, 1<<63 - 1: false} {
+		if h.Has(place) != has {
+			t.Errorf("Has(%d) = %v", place, !has)
+		}
+	}
+}
+
+func TestReadRefuses(t *testing.T) {
 	for _, digits := range []string{
 		"", "00", "62", "6277", "7762 01 00 03 010000", "6276 01 00 03 010000", "4277 01 00 03 010000",
 		"6277 00", "6277 29", "6277 ff", "6277 02", "6277 02 00",
@@ -89,8 +130,10 @@ func TestValidRefuses(t *testing.T) {
 		"6277 01 00 03 010000 01", "6277 01 00 03 010000 00 80",
 	} {
 		held := fromHex(t, digits)
-		if Valid(held) || Valid(filled(held)) {
-			t.Errorf("%s is valid", digits)
+		for _, held := range []string{held, filled(held)} {
+			if h, ok := Read(held); ok || h.Places() != 0 {
+				t.Errorf("Read(%x) = %v, %v", held, h, ok)
+			}
 		}
 	}
 }
