@@ -35,16 +35,45 @@ func TestSumOf(t *testing.T) {
 	for _, page := range []int{0, 1, 2, 127, 128, 255, 256, 257, 1874, 65535} {
 		for _, held := range []string{strings.Repeat("\x00", 28), strings.Repeat("\xff", 28), drawn(28), drawn(200)[172:]} {
 			want := sumByWords(page, held)
-			if sum := sumOf(page, held); sum != want {
-				t.Errorf("sumOf(%d, %x) = %d, want %d", page, held, sum, want)
+			if sum, byTable := sumOf(page, held), SumByTable(page, held); sum != want || byTable != want {
+				t.Errorf("sumOf(%d, %x) = %d, by the table %d, want %d", page, held, sum, byTable, want)
 			}
 		}
 	}
 	for b := range 256 {
 		held := strings.Repeat("a", 27) + string([]byte{byte(b)})
-		if sum, want := sumOf(5, held), crc32.ChecksumIEEE([]byte("\x00\x05"+held)); sum != want {
-			t.Errorf("sumOf(5, %x) = %d, want %d", held, sum, want)
+		want := crc32.ChecksumIEEE([]byte("\x00\x05" + held))
+		if sum, byTable := sumOf(5, held), SumByTable(5, held); sum != want || byTable != want {
+			t.Errorf("sumOf(5, %x) = %d, by the table %d, want %d", held, sum, byTable, want)
 		}
+	}
+}
+
+func TestTheTableIsFilled(t *testing.T) {
+	if table != [256]uint32(*crc32.IEEETable) {
+		t.Errorf("the table is %v", table)
+	}
+}
+
+// TestNoPageHangsOnTheTable spoils the table for a while: only the sum that goes by it is another.
+func TestNoPageHangsOnTheTable(t *testing.T) {
+	held := drawn(28 * 20)
+	data, byTable := Write(held), SumByTable(3, held[:28])
+	right := table
+	defer func() { table = right }()
+	for low := range table {
+		table[low] = ^table[low]
+	}
+	if Write(held) != data || FirstWrong(data) != Right {
+		t.Error("pages hang on the table")
+	}
+	changed := []byte(data)
+	changed[7*32+5] ^= 1
+	if page := FirstWrong(string(changed)); page != 7 {
+		t.Errorf("FirstWrong = %d", page)
+	}
+	if SumByTable(3, held[:28]) == byTable {
+		t.Error("SumByTable does not go by the table")
 	}
 }
 

@@ -10,29 +10,42 @@ var table [256]uint32
 
 func init() {
 	for low := range table {
-		sum := uint32(low)
-		for range 8 {
-			fallen := sum & 1
-			sum >>= 1
-			if fallen == 1 {
-				sum ^= turned
-			}
-		}
-		table[low] = sum
+		table[low] = dropEight(uint32(low))
 	}
 }
 
-// sumOf works out the sum of a page: of its number, and of what it holds.
+// sumOf works out the sum of a page: of its number, and of what it holds. It goes bit by bit, not by
+// the table: so what Write and FirstWrong answer hangs on their arguments alone.
 func sumOf(page int, held string) uint32 {
 	sum := uint32(firstSum)
-	sum = addByte(sum, byte(page>>8))
-	sum = addByte(sum, byte(page))
-	for i := range len(held) {
-		sum = addByte(sum, held[i])
+	for _, b := range summed(page, held) {
+		sum = dropEight(sum ^ uint32(b))
 	}
 	return ^sum
 }
 
-func addByte(sum uint32, b byte) uint32 {
-	return sum>>8 ^ table[byte(sum)^b]
+// SumByTable works out the same sum by the table, a byte at a step.
+func SumByTable(page int, held string) uint32 {
+	sum := uint32(firstSum)
+	for _, b := range summed(page, held) {
+		sum = sum>>8 ^ table[byte(sum)^b]
+	}
+	return ^sum
+}
+
+// summed gives the bytes of which the sum of a page is worked out.
+func summed(page int, held string) []byte {
+	return append([]byte{byte(page >> 8), byte(page)}, held...)
+}
+
+// dropEight lets the lowest 8 bits of a sum fall out.
+func dropEight(sum uint32) uint32 {
+	for range 8 {
+		fallen := sum & 1
+		sum >>= 1
+		if fallen == 1 {
+			sum ^= turned
+		}
+	}
+	return sum
 }
